@@ -1,0 +1,1 @@
+"""Barswoven: rows of spaces, their bars, and weavings."""

@@ -1,0 +1,107 @@
+"""The interface as it is written down, and the form of the files of the package."""
+
+import ast
+import pathlib
+import unittest
+
+PACKAGE = pathlib.Path(__file__).resolve().parent.parent / "barswoven"
+
+FUNCTIONS = {
+    "field": {"is_base": "number", "inverse_of": "value * base", "dot": "first second * base"},
+    "matrix": {"block": "first second"},
+}
+CLASSES = {
+    "errors": {
+        "WovenError": {}, "NoInverse": {}, "InvalidMatrix": {}, "Singular": {}, "InvalidTime": {},
+        "InvalidRow": {}, "InvalidMap": {}, "InvalidWeaving": {}, "InvalidGrowth": {}, "NoChain": {},
+        "InvalidName": {"__init__": "self name"}, "DuplicateName": {"__init__": "self name"},
+        "UnknownName": {"__init__": "self name"}, "InvalidText": {"__init__": "self line"},
+    },
+    "matrix": {
+        "Matrix": {
+            "__init__": "self base width rows", "height": "self", "is_zero": "self", "identity": "base size",
+            "zero": "base height width", "of_columns": "base height columns", "column": "self place",
+            "columns": "self", "apply": "self vector", "transposed": "self", "scaled": "self factor",
+            "__mul__": "self other", "__add__": "self other", "__sub__": "self other", "__eq__": "self other",
+        },
+    },
+}
+DECORATED = {"height": "property", "is_zero": "property"}
+DECORATED.update(dict.fromkeys(("identity", "zero", "of_columns"), "staticmethod"))
+
+
+def tree_of(module):
+    return ast.parse((PACKAGE / f"{module}.py").read_text("utf-8"))
+
+
+def defined(body, kind):
+    return {node.name: node for node in body if isinstance(node, kind)}
+
+
+def arguments(function):
+    told = function.args
+    named = [one.arg for one in told.args]
+    if told.kwonlyargs:
+        named += ["*", *[one.arg for one in told.kwonlyargs]]
+    return " ".join(named)
+
+
+class InterfaceTest(unittest.TestCase):
+    def test_functions_stand_in_their_files(self):
+        for module, functions in FUNCTIONS.items():
+            found = defined(tree_of(module).body, ast.FunctionDef)
+            for name, told in functions.items():
+                with self.subTest(module=module, name=name):
+                    self.assertEqual(arguments(found[name]), told)
+
+    def test_classes_stand_in_their_files_with_their_methods(self):
+        for module, classes in CLASSES.items():
+            found = defined(tree_of(module).body, ast.ClassDef)
+            for name, methods in classes.items():
+                own = defined(found[name].body, ast.FunctionDef)
+                for method, told in methods.items():
+                    with self.subTest(module=module, name=name, method=method):
+                        self.assertEqual(arguments(own[method]), told)
+                        over = [one.id for one in own[method].decorator_list]
+                        self.assertEqual(over, [DECORATED[method]] if method in DECORATED else [])
+
+
+class FormTest(unittest.TestCase):
+    def setUp(self):
+        self.files = {path.name: path.read_text("utf-8") for path in sorted(PACKAGE.rglob("*.py"))}
+        self.nodes = [(name, node) for name, text in self.files.items() for node in ast.walk(ast.parse(text))]
+
+    def test_the_folder_holds_the_files_of_the_program_alone(self):
+        found = {path.name for path in PACKAGE.iterdir() if path.name != "__pycache__"}
+        self.assertTrue({"__init__.py", "errors.py", "field.py", "matrix.py"} <= found)
+        self.assertTrue(all(name.endswith(".py") for name in found))
+
+    def test_sizes_and_characters(self):
+        for name, text in self.files.items():
+            lines = text.split("\n")
+            with self.subTest(file=name):
+                self.assertLessEqual(len(lines), 400)
+                self.assertLessEqual(max(map(len, lines)), 120)
+                self.assertTrue(all(sign == "\n" or " " <= sign <= "~" for sign in text))
+
+    def test_sizes_of_functions(self):
+        for name, node in self.nodes:
+            if isinstance(node, ast.FunctionDef):
+                self.assertLessEqual(node.end_lineno - node.lineno + 1, 40, (name, node.name))
+
+    def test_imports(self):
+        for name, node in self.nodes:
+            self.assertNotIsInstance(node, ast.Import, name)
+            if isinstance(node, ast.ImportFrom):
+                self.assertEqual(node.level, 0, name)
+                self.assertTrue(node.module.startswith("barswoven."), (name, node.module))
+
+    def test_whole_numbers_only(self):
+        for name, node in self.nodes:
+            self.assertNotIsInstance(node, ast.Div, name)
+            if isinstance(node, ast.Constant):
+                self.assertNotIsInstance(node.value, (float, complex), name)
+
+
+if __name__ == "__main__":
+    unittest.main()
