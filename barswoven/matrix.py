@@ -74,7 +74,12 @@ class Matrix:
         _check_bases(self, other)
         if self.width != other.height:
             raise InvalidMatrix("the width of the first matrix is not the height of the second one")
-        rows = [_sum_of_rows(row, other) for row in self.rows]
+        # A whole row is kept in one number, each entry in bits of its own that also hold a sum of products: the sum
+        # of the rows of the other matrix, each times its factor, is then found for all places at once.
+        bits = (self.width * self.base * self.base).bit_length()
+        numbers = [_packed(row, bits) for row in other.rows]
+        sums = [sum([factor * number for factor, number in zip(row, numbers)]) for row in self.rows]
+        rows = [_residues_of(total, bits, other.width, self.base) for total in sums]
         return Matrix(self.base, other.width, rows)
 
     def __add__(self, other):
@@ -102,6 +107,11 @@ def block(first, second):
     return Matrix(first.base, first.width + second.width, upper + lower)
 
 
+def has_size(matrix, base, height, width):
+    """True if the matrix has this base, height and width, otherwise False."""
+    return matrix.base == base and matrix.height == height and matrix.width == width
+
+
 def _is_vector(entries, length, base):
     return len(entries) == length and all([0 <= entry < base for entry in entries])
 
@@ -111,14 +121,18 @@ def _check_bases(first, second):
         raise InvalidMatrix("the bases differ")
 
 
-def _sum_of_rows(factors, matrix):
-    """The sum of the rows of the matrix, each times its factor."""
-    total = [0] * matrix.width
-    for factor, row in zip(factors, matrix.rows):
-        # Most factors of the matrices of rows and maps are 0; leaving them out saves most of the work.
-        if factor != 0:
-            total = [have + factor * entry for have, entry in zip(total, row)]
-    return [entry % matrix.base for entry in total]
+def _packed(row, bits):
+    """The number that has the entries of the row in so many bits each, the first entry in the lowest ones."""
+    number = 0
+    for entry in reversed(row):
+        number = (number << bits) + entry
+    return number
+
+
+def _residues_of(number, bits, length, base):
+    """The residues of the entries that are kept in the number."""
+    size = 1 << bits
+    return [(number >> (bits * place)) % size % base for place in range(length)]
 
 
 def _plus_times(first, factor, second):

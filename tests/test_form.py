@@ -1,6 +1,7 @@
 """The interface as it is written down, and the form of the files of the package."""
 
 import ast
+import builtins
 import pathlib
 import unittest
 
@@ -9,6 +10,16 @@ PACKAGE = pathlib.Path(__file__).resolve().parent.parent / "barswoven"
 FUNCTIONS = {
     "field": {"is_base": "number", "inverse_of": "value * base", "dot": "first second * base"},
     "matrix": {"block": "first second"},
+    "solving": {
+        "rank": "matrix", "inverse": "matrix", "solve": "matrix vector", "kernel": "matrix", "normal": "matrix",
+    },
+    "bars": {
+        "lives": "bar time", "sorted_bars": "bars", "rank_between": "row start end", "bars": "row",
+        "row_of_bars": "base last bars",
+    },
+    "frames": {
+        "frame": "row", "is_frame": "row strands", "alike": "first second", "is_alike": "first second paper",
+    },
 }
 CLASSES = {
     "errors": {
@@ -25,9 +36,26 @@ CLASSES = {
             "__mul__": "self other", "__add__": "self other", "__sub__": "self other", "__eq__": "self other",
         },
     },
+    "row": {
+        "Row": {
+            "__init__": "self base dims steps", "last": "self", "dim": "self time", "step": "self time",
+            "carry": "self start end", "prolonged": "self last", "later": "self lag", "earlier": "self lag",
+            "plus": "self other", "__eq__": "self other",
+        },
+    },
 }
-DECORATED = {"height": "property", "is_zero": "property"}
+DECORATED = {"height": "property", "is_zero": "property", "last": "property"}
 DECORATED.update(dict.fromkeys(("identity", "zero", "of_columns"), "staticmethod"))
+
+BUILTINS = set((
+    "len range enumerate zip min max sum abs sorted reversed int str bool list tuple dict set isinstance ord repr any "
+    "all divmod ValueError staticmethod property super"
+).split())
+METHODS = set((
+    "append clear copy count endswith extend find get index insert isalnum isalpha isdigit islower isspace isupper "
+    "items join keys ljust lower lstrip partition pop remove replace reverse rfind rjust rpartition rsplit rstrip "
+    "setdefault split splitlines startswith strip update upper values zfill bit_length __init__"
+).split())
 
 
 def tree_of(module):
@@ -73,7 +101,8 @@ class FormTest(unittest.TestCase):
 
     def test_the_folder_holds_the_files_of_the_program_alone(self):
         found = {path.name for path in PACKAGE.iterdir() if path.name != "__pycache__"}
-        self.assertTrue({"__init__.py", "errors.py", "field.py", "matrix.py"} <= found)
+        told = {f"{module}.py" for module in (*FUNCTIONS, *CLASSES)}
+        self.assertEqual(found, told | {"__init__.py"})
         self.assertTrue(all(name.endswith(".py") for name in found))
 
     def test_sizes_and_characters(self):
@@ -101,6 +130,49 @@ class FormTest(unittest.TestCase):
             self.assertNotIsInstance(node, ast.Div, name)
             if isinstance(node, ast.Constant):
                 self.assertNotIsInstance(node.value, (float, complex), name)
+
+    def test_no_two_files_import_from_each_other(self):
+        imported = {name[:-3]: [] for name in self.files}
+        for name, node in self.nodes:
+            if isinstance(node, ast.ImportFrom):
+                imported[name[:-3]].append(node.module.partition(".")[2])
+        done = set()
+        while len(done) < len(imported):
+            ready = {module for module in imported if module not in done and done.issuperset(imported[module])}
+            self.assertTrue(ready, "some files import from each other")
+            done |= ready
+
+    def test_names_with_one_meaning(self):
+        for name, text in self.files.items():
+            body = ast.parse(text).body
+            bound = [one.name for one in body if isinstance(one, (ast.FunctionDef, ast.ClassDef))]
+            imports = [one.name for node in body if isinstance(node, ast.ImportFrom) for one in node.names]
+            self.assertEqual(len(bound + imports), len(set(bound + imports)), name)
+            kept = set(dir(builtins)) | set(imports)
+            kept.update(one.name for one in body if isinstance(one, ast.ClassDef))
+            used = {node.arg for node in ast.walk(ast.parse(text)) if isinstance(node, ast.arg)}
+            used.update(
+                node.id for node in ast.walk(ast.parse(text))
+                if isinstance(node, ast.Name) and isinstance(node.ctx, ast.Store)
+            )
+            self.assertEqual(used & kept, set(), name)
+            self.assertEqual(set(bound) & set(dir(builtins)), set(), name)
+
+    def test_builtins_and_methods(self):
+        own = {node.name for _, node in self.nodes if isinstance(node, ast.FunctionDef)}
+        for name, node in self.nodes:
+            if isinstance(node, ast.Name) and hasattr(builtins, node.id):
+                self.assertIn(node.id, BUILTINS, name)
+            if isinstance(node, ast.Call) and isinstance(node.func, ast.Attribute):
+                self.assertIn(node.func.attr, METHODS | own, name)
+
+    def test_statements_and_expressions(self):
+        barred = (
+            ast.GeneratorExp, ast.Global, ast.AsyncFunctionDef, ast.Await, ast.Yield, ast.Lambda, ast.Set, ast.Import,
+            ast.Try, ast.With, ast.AnnAssign, ast.NamedExpr, ast.Starred, ast.Match,
+        )
+        for name, node in self.nodes:
+            self.assertNotIsInstance(node, barred, (name, getattr(node, "lineno", 0)))
 
 
 if __name__ == "__main__":

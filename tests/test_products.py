@@ -97,6 +97,14 @@ class ProductTest(unittest.TestCase):
         b = any_matrix(chance, 97, 40, 40)
         self.assertEqual((a * b).rows, product_by_hand(a, b))
 
+    def test_greatest_sums(self):
+        for base in (2, 3, 97):
+            for width in (1, 2, 3, 7, 40, 120):
+                a = Matrix(base, width, [[base - 1] * width, [0] * width, [base - 1] * width])
+                b = Matrix(base, 4, [[base - 1, base - 1, 0, base - 1]] * width)
+                most = width * (base - 1) ** 2 % base
+                self.assertEqual((a * b).rows, ((most, most, 0, most), (0, 0, 0, 0), (most, most, 0, most)))
+
     def test_identity(self):
         matrix = Matrix(5, 3, [[1, 2, 3], [4, 0, 1]])
         self.assertEqual(Matrix.identity(5, 2) * matrix, matrix)
