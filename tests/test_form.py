@@ -20,6 +20,15 @@ FUNCTIONS = {
     "frames": {
         "frame": "row", "is_frame": "row strands", "alike": "first second", "is_alike": "first second paper",
     },
+    "lagmap": {"image": "lagmap", "lost": "lagmap"},
+    "pairing": {
+        "are_near": "bar other * lag", "is_long": "bar * lag", "is_pairing": "first second pairs * lag",
+        "is_lonely": "first second side places * lag", "is_apart": "first second side places",
+        "pair_within": "first second * lag", "least_pairing": "first second", "by_deaths": "part whole * lag",
+        "by_births": "whole made",
+    },
+    "weaving": {"weave": "first second ours theirs pairs * lag", "pairs_of": "weaving"},
+    "comparing": {"compare": "first second", "accepts": "first second paper"},
 }
 CLASSES = {
     "errors": {
@@ -43,9 +52,22 @@ CLASSES = {
             "plus": "self other", "__eq__": "self other",
         },
     },
+    "lagmap": {
+        "LagMap": {
+            "__init__": "self first second lag parts", "carrying": "row lag", "part": "self time", "is_into": "self",
+            "is_onto": "self", "then": "self other", "beside": "self other", "__add__": "self other",
+            "__eq__": "self other",
+        },
+    },
+    "weaving": {
+        "Weaving": {
+            "__init__": "self forth back", "still": "row", "turned": "self", "then": "self other",
+            "slowed": "self lag", "beside": "self other", "__eq__": "self other",
+        },
+    },
 }
 DECORATED = {"height": "property", "is_zero": "property", "last": "property"}
-DECORATED.update(dict.fromkeys(("identity", "zero", "of_columns"), "staticmethod"))
+DECORATED.update(dict.fromkeys(("identity", "zero", "of_columns", "carrying", "still"), "staticmethod"))
 
 BUILTINS = set((
     "len range enumerate zip min max sum abs sorted reversed int str bool list tuple dict set isinstance ord repr any "
