@@ -3,7 +3,7 @@
 from barswoven.errors import InvalidRow
 from barswoven.matrix import Matrix
 from barswoven.row import Row
-from barswoven.solving import rank, reduced
+from barswoven.solving import free_places, rank, reduced
 
 
 def lives(bar, time):
@@ -86,7 +86,7 @@ def _prolonged_strand(strand, vector):
 def _dying(living, lasting, rows, time, base):
     """The strands that die at the time, whose images depend on those of elder ones that last."""
     elder = [living[place] for place in lasting]
-    dying = [place for place in range(len(living)) if place not in lasting]
+    dying = free_places(lasting, len(living))
     return [_ended_strand(living[place], elder, [row[place] for row in rows], time, base) for place in dying]
 
 

@@ -81,7 +81,7 @@ def least_pairing(first, second):
 def by_deaths(part, whole, *, lag=0):
     """The pairs of the bars with each death, the eldest first, for a map that is into."""
     pairs = []
-    for death in _different([death for _, death in part]):
+    for death in _different([bar[1] for bar in part]):
         later = None if death is None else death + lag
         pairs = pairs + list(zip(_eldest_first(part, death), _eldest_first(whole, later)))
     return sorted(pairs)
@@ -90,7 +90,7 @@ def by_deaths(part, whole, *, lag=0):
 def by_births(whole, made):
     """The pairs of the bars with each birth, the last to die first, for a map that is onto."""
     pairs = []
-    for birth in _different([birth for birth, _ in made]):
+    for birth in _different([bar[0] for bar in made]):
         pairs = pairs + list(zip(_last_to_die_first(whole, birth), _last_to_die_first(made, birth)))
     return sorted(pairs)
 
@@ -104,10 +104,7 @@ def _of_side(first, second, side):
 
 def _are_places(places, bars):
     """True if the places are ascending, different indexes of the bars."""
-    return (
-        all([0 <= place < len(bars) for place in places])
-        and list(places) == sorted(set(places))
-    )
+    return all([0 <= place < len(bars) for place in places]) and list(places) == sorted(set(places))
 
 
 def _left_out(bars, places):

@@ -89,6 +89,11 @@ class EqualityTest(unittest.TestCase):
             self.assertIs(row == other, False)
             self.assertIs(row != other, True)
 
+    def test_rows_without_steps(self):
+        self.assertIs(Row(5, [2], []) == Row(5, (2,), ()), True)
+        self.assertIs(Row(5, [2], []) == Row(5, [1], []), False)
+        self.assertIs(Row(5, [2], []) == Row(7, [2], []), False)
+
     def test_empty_rows(self):
         self.assertIs(Row(5, [0], []) == Row(5, [0], []), True)
         self.assertIs(Row(5, [0], []) == Row(7, [0], []), False)
