@@ -7,7 +7,7 @@ from barswoven.solving import inverse, rank
 
 def frame(row):
     """A frame of the row: a tuple of strands, sorted by their bars."""
-    return tuple(sorted(strands_of(row), key=_order_of_strand))
+    return tuple(sorted(strands_of(row), key=order_of_strand))
 
 
 def is_frame(row, strands):
@@ -68,7 +68,8 @@ def vectors_at(row, strands, time):
     return Matrix.of_columns(row.base, row.dim(time), living)
 
 
-def _order_of_strand(strand):
+def order_of_strand(strand):
+    """What strands are sorted by."""
     return order_of_bar(strand[0])
 
 

@@ -29,6 +29,10 @@ FUNCTIONS = {
     },
     "weaving": {"weave": "first second ours theirs pairs * lag", "pairs_of": "weaving"},
     "comparing": {"compare": "first second", "accepts": "first second paper"},
+    "midway": {"midway": "first second * lag"},
+    "backwards": {"turned_row": "row", "turned_bars": "bars last", "turned_strands": "row strands"},
+    "growth": {"faces": "piece"},
+    "reducing": {"partners": "growth * base", "hole_bars": "growth degree * base", "part_bars": "growth"},
 }
 CLASSES = {
     "errors": {
@@ -65,13 +69,20 @@ CLASSES = {
             "slowed": "self lag", "beside": "self other", "__eq__": "self other",
         },
     },
+    "growth": {
+        "Growth": {
+            "__init__": "self entries", "last": "self", "height_of": "self piece", "pieces": "self degree",
+            "amount": "self degree time", "borders": "self degree time base", "__len__": "self", "__iter__": "self",
+            "__contains__": "self piece", "__eq__": "self other",
+        },
+    },
 }
 DECORATED = {"height": "property", "is_zero": "property", "last": "property"}
 DECORATED.update(dict.fromkeys(("identity", "zero", "of_columns", "carrying", "still"), "staticmethod"))
 
 BUILTINS = set((
     "len range enumerate zip min max sum abs sorted reversed int str bool list tuple dict set isinstance ord repr any "
-    "all divmod ValueError staticmethod property super"
+    "all divmod iter ValueError staticmethod property super"
 ).split())
 METHODS = set((
     "append clear copy count endswith extend find get index insert isalnum isalpha isdigit islower isspace isupper "
@@ -164,6 +175,12 @@ class FormTest(unittest.TestCase):
             self.assertTrue(ready, "some files import from each other")
             done |= ready
 
+    def test_iteration_is_one_statement(self):
+        for name, node in self.nodes:
+            if isinstance(node, ast.FunctionDef) and node.name == "__iter__":
+                self.assertEqual(ast.unparse(node.body[-1]), "return iter(self.entries)", name)
+                self.assertEqual(len(node.body), 1, name)
+
     def test_names_with_one_meaning(self):
         for name, text in self.files.items():
             body = ast.parse(text).body
@@ -191,10 +208,17 @@ class FormTest(unittest.TestCase):
     def test_statements_and_expressions(self):
         barred = (
             ast.GeneratorExp, ast.Global, ast.AsyncFunctionDef, ast.Await, ast.Yield, ast.Lambda, ast.Set, ast.Import,
-            ast.Try, ast.With, ast.AnnAssign, ast.NamedExpr, ast.Starred, ast.Match,
+            ast.With, ast.AnnAssign, ast.NamedExpr, ast.Starred, ast.Match,
         )
         for name, node in self.nodes:
             self.assertNotIsInstance(node, barred, (name, getattr(node, "lineno", 0)))
+
+    def test_own_errors_alone_are_caught(self):
+        for name, node in self.nodes:
+            if isinstance(node, ast.Try):
+                self.assertEqual((node.orelse, node.finalbody), ([], []), name)
+            if isinstance(node, ast.ExceptHandler):
+                self.assertIn(node.type.id, CLASSES["errors"], name)
 
 
 if __name__ == "__main__":
