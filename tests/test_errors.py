@@ -33,6 +33,14 @@ class ErrorTest(unittest.TestCase):
                 with self.assertRaises(kind):
                     raise kind("words")
 
+    def test_each_is_none_of_the_other_ones(self):
+        kinds = [getattr(errors, name) for name in ALL]
+        for name, kind in zip(ALL, kinds):
+            fault = kind(3) if name == "InvalidText" else kind("abc")
+            self.assertIsInstance(fault, errors.WovenError)
+            self.assertIsInstance(fault, ValueError)
+            self.assertEqual([isinstance(fault, other) for other in kinds], [other is kind for other in kinds])
+
     def test_field_name(self):
         for name in NAMED:
             for told in ("a", "", "Not A Name", "x" * 20):

@@ -33,6 +33,14 @@ FUNCTIONS = {
     "backwards": {"turned_row": "row", "turned_bars": "bars last", "turned_strands": "row strands"},
     "growth": {"faces": "piece"},
     "reducing": {"partners": "growth * base", "hole_bars": "growth degree * base", "part_bars": "growth"},
+    "holes": {
+        "hole_row": "growth degree * base", "is_hole_row": "growth degree row cycles",
+        "weave_heights": "first second degree * base",
+    },
+    "writing": {
+        "write_matrix": "matrix", "write_row": "row", "write_weaving": "weaving", "write_book": "book",
+    },
+    "reading": {"read_row": "text", "read_weaving": "text first second", "read_book": "text"},
 }
 CLASSES = {
     "errors": {
@@ -74,6 +82,14 @@ CLASSES = {
             "__init__": "self entries", "last": "self", "height_of": "self piece", "pieces": "self degree",
             "amount": "self degree time", "borders": "self degree time base", "__len__": "self", "__iter__": "self",
             "__contains__": "self piece", "__eq__": "self other",
+        },
+    },
+    "book": {
+        "Book": {
+            "__init__": "self", "add": "self name row", "names": "self", "row": "self name",
+            "offer_weaving": "self first second weaving", "offer_lonely": "self first second lag side places",
+            "offer_apart": "self first second side places", "claims": "self", "high": "self first second",
+            "low": "self first second", "weaving": "self first second", "are_apart": "self first second",
         },
     },
 }
